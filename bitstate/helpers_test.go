@@ -1,0 +1,168 @@
+package bitstate_test
+
+import (
+	"fmt"
+	"slices"
+	"testing"
+
+	"heron/api"
+	"heron/bitstate"
+	"heron/prog"
+	"heron/syntax"
+)
+
+// least and most are the edges of all numbers.
+const (
+	most  = int(^uint(0) >> 1)
+	least = -most - 1
+)
+
+// rangesOf are ranges, told by pairs of runes.
+func rangesOf(l ...int) []api.Range {
+	var ranges []api.Range
+	for i := 0; i < len(l); i += 2 {
+		ranges = append(ranges, api.Range{Lo: l[i], Hi: l[i+1]})
+	}
+	return ranges
+}
+
+// manyRanges are so many ranges of one rune each, the even ones from a rune on; a class while they are not too many.
+func manyRanges(count, from int) []api.Range {
+	var ranges []api.Range
+	for i := range count {
+		ranges = append(ranges, api.Range{Lo: from + 2*i, Hi: from + 2*i})
+	}
+	return ranges
+}
+
+// many are so many things, each the same.
+func many[T any](count int, one T) []T { return slices.Repeat([]T{one}, count) }
+
+// The instructions.
+
+func ifRune(x int, ranges ...api.Range) api.Inst {
+	return api.Inst{Op: api.OpRune, X: x, Ranges: ranges}
+}
+
+// ifA, ifB and ifAny take one rune alone, or each of the domain.
+func ifA(x int) api.Inst { return ifRune(x, rangesOf('a', 'a')...) }
+
+func ifB(x int) api.Inst { return ifRune(x, rangesOf('b', 'b')...) }
+
+func ifAny(x int) api.Inst { return ifRune(x, rangesOf(0, 0xD7FF, 0xE000, api.MaxRune)...) }
+
+func either(x, y int) api.Inst { return api.Inst{Op: api.OpAlt, X: x, Y: y} }
+
+func note(arg, x int) api.Inst { return api.Inst{Op: api.OpCap, Arg: arg, X: x} }
+
+func ifHolds(arg, x int) api.Inst { return api.Inst{Op: api.OpAssert, Arg: arg, X: x} }
+
+func match(arg int) api.Inst { return api.Inst{Op: api.OpMatch, Arg: arg} }
+
+func fail() api.Inst { return api.Inst{Op: api.OpFail} }
+
+func goOn(x int) api.Inst { return api.Inst{Op: api.OpNop, X: x} }
+
+// whole is a program that begins with its first instruction.
+func whole(caps int, insts ...api.Inst) api.Program { return api.Program{Insts: insts, Caps: caps} }
+
+// treeOf is a pattern's tree.
+func treeOf(t testing.TB, pattern string) api.Node {
+	t.Helper()
+	tree, err := syntax.Parse(pattern)
+	if err != nil {
+		t.Fatalf("%q: %v", pattern, err)
+	}
+	return tree
+}
+
+// ofPattern is the program of a pattern that is not to be refused.
+func ofPattern(t testing.TB, pattern string) api.Program {
+	t.Helper()
+	p, errno := prog.Compile(treeOf(t, pattern))
+	if errno != api.OK {
+		t.Fatalf("%q: %d", pattern, errno)
+	}
+	return p
+}
+
+// joined is the Join of programs that are not to be refused.
+func joined(t testing.TB, l ...api.Program) api.Program {
+	t.Helper()
+	p, errno := prog.Join(l)
+	if errno != api.OK {
+		t.Fatalf("Join: %d", errno)
+	}
+	return p
+}
+
+// runesOf are a string's runes.
+func runesOf(s string) []int {
+	var l []int
+	for _, r := range s {
+		l = append(l, int(r))
+	}
+	return l
+}
+
+// found is what a search has found; nothing is not.
+func found(steps, which int, caps ...int) api.Found {
+	return api.Found{Ok: true, Caps: caps, Which: which, Steps: steps}
+}
+
+// nothing is what a search in vain answers.
+func nothing(steps int) api.Found { return api.Found{Steps: steps} }
+
+// sameFind tells whether two searches found the same, in however many steps; a nil list is as an empty one.
+func sameFind(a, b api.Found) bool {
+	return a.Ok == b.Ok && a.Which == b.Which && slices.Equal(a.Caps, b.Caps)
+}
+
+// sameFound tells whether they are the same in all.
+func sameFound(a, b api.Found) bool { return sameFind(a, b) && a.Steps == b.Steps }
+
+// sameInst tells whether two instructions are the same; a nil list is as an empty one.
+func sameInst(a, b api.Inst) bool {
+	return a.Op == b.Op && a.X == b.X && a.Y == b.Y && a.Arg == b.Arg && slices.Equal(a.Ranges, b.Ranges)
+}
+
+// same tells whether two programs are.
+func same(a, b api.Program) bool {
+	return a.Start == b.Start && a.Caps == b.Caps && slices.EqualFunc(a.Insts, b.Insts, sameInst)
+}
+
+// shown is a search as it is told by a failing test.
+func shown(p api.Program, text []int, at int, anchored bool) string {
+	s := fmt.Sprintf("%v; Start %d; Caps %d; %d instructions", p.Insts[:min(len(p.Insts), 20)], p.Start, p.Caps, len(p.Insts))
+	return fmt.Sprintf("%.400s; over %v (%d) at %d, anchored %v", s, text[:min(len(text), 20)], len(text), at, anchored)
+}
+
+// wantRun fails, if Run does not answer that.
+func wantRun(t *testing.T, p api.Program, text []int, at int, anchored bool, want api.Found) {
+	t.Helper()
+	f, errno := bitstate.Run(p, text, at, anchored)
+	if errno != api.OK || !sameFound(f, want) {
+		t.Errorf("%s: %+v, %d; want %+v", shown(p, text, at, anchored), f, errno, want)
+	}
+}
+
+// wantRefused fails, if Run does not answer that error, or anything beside it; be it anchored or not.
+func wantRefused(t *testing.T, what string, p api.Program, text []int, at int, want api.Errno) {
+	t.Helper()
+	for _, anchored := range []bool{false, true} {
+		f, errno := bitstate.Run(p, text, at, anchored)
+		if errno != want || !sameFound(f, api.Found{}) {
+			t.Errorf("%s: %s: %+v, %d; want %d", what, shown(p, text, at, anchored), f, errno, want)
+		}
+	}
+}
+
+// ran is what Run answers, which is not to refuse.
+func ran(t testing.TB, p api.Program, text []int, at int, anchored bool) api.Found {
+	t.Helper()
+	f, errno := bitstate.Run(p, text, at, anchored)
+	if errno != api.OK {
+		t.Fatalf("%s: %d", shown(p, text, at, anchored), errno)
+	}
+	return f
+}
