@@ -154,6 +154,24 @@ func TestManyRoots(t *testing.T) {
 	}
 }
 
+// TestManyPairsOfDoors: P13.1: likewise, but that each comes to the great closure by two ways, to parts of it that have nothing in common.
+func TestManyPairsOfDoors(t *testing.T) {
+	const classes = 200
+	p := whole(2, fan(0, classes, 1000, func(int) int { return 2 * classes })...)
+	p.Insts = append(p.Insts, fail())
+	for len(p.Insts) < api.MaxInsts-3 {
+		first := len(p.Insts)
+		p.Insts = append(p.Insts, either(first+1, first+2), ifOne(own, first+3), either(classes-1, 1))
+	}
+	p.Insts = append(p.Insts, fail())
+	wantIs(t, p, true)
+	for inst := 2*classes + 1; inst < len(p.Insts); inst += 6000 {
+		wantIs(t, with(p, inst, ifOne(taken, inst+2)), false)
+		wantIs(t, with(p, inst+1, either(classes, 1)), false)
+		wantIs(t, with(p, inst+1, either(classes, 2)), true)
+	}
+}
+
 // TestManyInnerRoots: P13.1: likewise, but that some come to the great closure by an instruction that others have gone by ahead of them.
 func TestManyInnerRoots(t *testing.T) {
 	const classes, part = 200, 7
@@ -172,12 +190,12 @@ func TestManyInnerRoots(t *testing.T) {
 	}
 }
 
-// TestManyDoors: P13.1: likewise, but that each comes to another part of the great closure, by one way and without a rune of its own.
+// TestManyDoors: P13.1: likewise, but that each comes to another part of the great closure, by one way and without a rune of its own; the least part comes first.
 func TestManyDoors(t *testing.T) {
 	const classes = 4000
 	p := whole(2, fan(0, classes, 50, func(i int) int { return 2*classes - 1 + i })...)
 	for i := range classes {
-		p.Insts = append(p.Insts, note(1, i))
+		p.Insts = append(p.Insts, note(1, classes-1-i))
 	}
 	wantIs(t, p, true)
 	last := len(p.Insts) - 1
@@ -185,6 +203,26 @@ func TestManyDoors(t *testing.T) {
 	wantIs(t, with(p, last, either(0, 1)), false)
 	wantIs(t, with(p, last, either(classes, 1)), false)
 	wantIs(t, with(p, last, either(classes, 2)), true)
+}
+
+// TestRowOfOptions: P13.1: likewise, but that each has a rune of its own, and comes to another part of the great closure: that of a row of options, each with an option at its end.
+func TestRowOfOptions(t *testing.T) {
+	const count = 4000
+	p := api.Program{Caps: 2}
+	for i := range count {
+		f := 4 * i
+		p.Insts = append(p.Insts, either(f+1, f+4), ifRune(f+2, manyRanges(50, i, count)...), either(f+3, f+4), ifOne(own, f+4))
+	}
+	p.Insts = append(p.Insts, match(0))
+	wantIs(t, p, true)
+	// What is in an option behind is taken, what is in one ahead, or in none, is not.
+	for _, x := range []struct {
+		at, r int
+		want  bool
+	}{{0, 1, false}, {0, 0, true}, {0, 3999, false}, {0, taken, false}, {0, taken + 1, true}, {2000, 2001, false}, {2000, 2000, true}, {2000, 5, true}, {2000, 3999, false}, {3998, 3999, false}, {3998, 3998, true}, {3999, 3999, true}} {
+		wantIs(t, with(p, 4*x.at+3, ifOne(x.r, 4*x.at+4)), x.want)
+	}
+	wantIs(t, with(p, 4*2000+3, match(0)), false)
 }
 
 // TestManyOptions: P13.1: a loop of thousands of alternatives, each with an option at its end, from which one comes back to all of them.

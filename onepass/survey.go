@@ -61,10 +61,20 @@ func (s *survey) isPlain(inst int) bool {
 	if !s.near.gather([]int{inst}, s.plain) {
 		return false
 	}
-	if doors := len(s.near.doors); doors == 0 || doors == 1 && s.near.isBlank() {
+	switch doors := s.near.doors; len(doors) {
+	case 0:
 		return true
+	case 1:
+		if s.near.isBlank() || s.goesWithMore(doors[0]) {
+			return true
+		}
 	}
 	return s.open(s.near.doors) && s.near.goesWith(&s.far)
+}
+
+// goesWithMore tells whether what is behind a door was opened last, maybe with more, and what is being looked at is plain together even with all of that. So what follows on a long row of options is not opened anew at each of them.
+func (s *survey) goesWithMore(door int) bool {
+	return s.far.met.Has(door) && s.near.goesWith(&s.far)
 }
 
 // open goes through what is behind doors, and tells whether it is plain together.
